@@ -1,0 +1,1 @@
+"""Rules over logs that more events never undo."""
