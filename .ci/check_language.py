@@ -12,6 +12,8 @@ import os
 import re
 import sys
 
+# Python binds _ there while it shows values.
+BUILTINS = set(dir(builtins)) - {"_"}
 FUNCTIONS = set("""len range enumerate zip min max sum abs sorted reversed int str bool list tuple dict set isinstance
     ord repr any all divmod iter next""".split())
 ERRORS = set("""Exception ValueError TypeError KeyError IndexError LookupError ZeroDivisionError ArithmeticError
@@ -153,7 +155,7 @@ class Checker:
     def check_name(self, node, name):
         if not re.fullmatch(r"_?[A-Za-z][A-Za-z0-9_]*|_", name) or NO_STARTS.match(name):
             self.say(node, "L12", f"the name {name}")
-        if name in NOWHERE | NO_NAMES | NO_WORDS or hasattr(builtins, name):
+        if name in NOWHERE | NO_NAMES | NO_WORDS or name in BUILTINS:
             self.say(node, "L15/L17", f"the name {name} is not used")
 
     def check_FunctionDef(self, node):
@@ -211,7 +213,7 @@ class Checker:
         elif node.id == "property":
             if not isinstance(self.parents[node], ast.FunctionDef):
                 self.say(node, "L8", "property is read")
-        elif hasattr(builtins, node.id) and node.id not in FUNCTIONS | ERRORS:
+        elif node.id in BUILTINS and node.id not in FUNCTIONS | ERRORS:
             self.say(node, "L8", f"the builtin {node.id}")
         elif node.id in FUNCTIONS:
             self.check_builtin(node)
@@ -348,7 +350,7 @@ class Package:
             self.found.append(f"{self.folder}: L14 no __init__.py, or more than 100 files")
         for name in names:
             file = name[:-3]
-            is_barred = file in NOWHERE | NO_NAMES | NO_WORDS | set(LIBRARY) or hasattr(builtins, file)
+            is_barred = file in NOWHERE | NO_NAMES | NO_WORDS | set(LIBRARY) or file in BUILTINS
             is_plain = re.fullmatch(r"[a-z][a-z0-9_]*", file) and not NO_FILES.match(file) and not is_barred
             if not name.endswith(".py") or not (is_plain or file == "__init__"):
                 self.found.append(f"{self.folder}/{name}: L1/L14 a file of another kind or name")

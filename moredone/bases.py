@@ -39,9 +39,8 @@ def either(one, other):
 
 def both(one, other):
     """The base that a log does if it does one and other."""
-    ones, others = copied(one), copied(other)
-    logs = [log for word in ones for behind in others for log in least_both(word, behind)]
-    return tuple([log for log in in_order(logs) if _needs_all(log, ones, others)])
+    logs = [log for word in one for behind in other for log in least_both(word, behind)]
+    return tuple([log for log in in_order(logs) if _needs_all(log, one, other)])
 
 
 def _needs_all(log, one, other):

@@ -49,6 +49,7 @@ class Rule:
         return Rule(TIMES, self, _as_number(other))
 
     def __contains__(self, x):
+        """Whether the log x does the rule."""
         return _end(self, x, 0) is not None
 
     @property

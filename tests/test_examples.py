@@ -1,5 +1,7 @@
 """The examples of the document, as they stand there."""
 
+import doctest
+import os
 import unittest
 
 from moredone.bases import (base_of, both, common, does, either, is_base, is_checklist, is_inside, missing, names_in,
@@ -123,6 +125,14 @@ class Rules(unittest.TestCase):
         self.assertEqual((rule.text, (seen("a") >> (seen("b") >> "c")).text, ((seen("a") >> "b") * 3).text,
                           (0 * seen("a")).text),
                          ("a >> b | c * 2 >> (d | e) & f", "a >> (b >> c)", "(a >> b) * 3", "a * 0"))
+
+
+class Readme(unittest.TestCase):
+    def test_its_examples(self):
+        readme = os.path.join(os.path.dirname(os.path.dirname(os.path.abspath(__file__))), "README.md")
+        failed, tried = doctest.testfile(readme, module_relative=False)
+        self.assertEqual(failed, 0)
+        self.assertGreater(tried, 4)
 
 
 if __name__ == "__main__":

@@ -35,7 +35,8 @@ CALLS = {
     bases.is_inside: (("one", "other"), [(CALL, ORDER, False), ((("a", "b", "a"),), ORDER, True)]),
     bases.outside: (("one", "other"), [(CALL, ORDER, ("c",)), (ORDER, CALL, ("a", "b")), (CALL, CALL, None)]),
     bases.missing: (("base", "other"), [(CALL, ORDER, (("a", "b"),)), (ORDER, CALL, CALL), (CALL, CALL, ())]),
-    bases.common: (("base",), [(BACK, (("a", "b"), ("b", "a"))), (CALL, ((),)), ((), None)]),
+    bases.common: (("base",), [(BACK, (("a", "b"), ("b", "a"))), (CALL, ((),)), ((), None),
+                               ((("a", "c"),), (("a", "c"),))]),
     bases.is_checklist: (("base",), [(BACK, True), (CALL, False), ((), False)]),
     bases.stages: (("base",), [((("a", "b"), ("c", "b")), ((("a",), ("c",)), (("b",),))), (((),), ()), ((), None)]),
 }

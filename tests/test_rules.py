@@ -215,6 +215,19 @@ class Signs(unittest.TestCase):
                 self.assertEqual(caught.exception.value, value)
         self.check(rule, "a", (("a",),))
 
+    def test_other_kinds_are_not_joined(self):
+        rule = seen("a")
+        joins = (lambda value: rule >> value, lambda value: value >> rule, lambda value: rule | value,
+                 lambda value: value | rule, lambda value: rule & value, lambda value: value & rule)
+        for join, value in itertools.product(joins, (1, None, ("a",), ["a"])):
+            with self.assertRaises(TypeError):
+                join(value)
+        for value in ("a", None, ("a",), rule):
+            with self.assertRaises(TypeError):
+                rule * value
+            with self.assertRaises(TypeError):
+                value * rule
+
     def test_in_the_place_of_a_new_one(self):
         rule = old = seen("a")
         rule >>= "b"
