@@ -177,6 +177,43 @@ class Checker:
             if any(isinstance(part, (ast.Name, ast.Call, ast.List, ast.Dict, ast.Set)) for part in ast.walk(default)):
                 self.say(default, "L4", "a default value that is not plain")
 
+        if node.name == "__init__" and any(isinstance(each, ast.Return) for each in ast.walk(node)):
+            self.say(node, "L28", "__init__ returns something")
+        self.check_stored_sets(node)
+
+    def check_stored_sets(self, function):
+        """A set that is kept has one name, is bound once, and is only tested, measured, sorted and added to."""
+        own = list(own_nodes(function))
+        kept = [each.targets[0].id for each in own if isinstance(each, ast.Assign) and is_set(each.value)
+                and isinstance(each.targets[0], ast.Name)]
+        for name in kept:
+            bound = [each for each in own if isinstance(each, ast.Name) and each.id == name
+                     and not isinstance(each.ctx, ast.Load)]
+            bound += [each for each in ast.walk(function.args) if isinstance(each, ast.arg) and each.arg == name]
+            if len(bound) > 1:
+                self.say(function, "L24", f"the set {name} is bound again")
+        for each in ast.walk(function):
+            if isinstance(each, ast.Name) and each.id in kept and isinstance(each.ctx, ast.Load):
+                if each not in own or not self.is_set_use(each):
+                    self.say(each, "L24", f"the set {each.id} is used for something else")
+
+    def is_set_use(self, node):
+        parent = self.parents[node]
+        if isinstance(parent, ast.Compare):
+            return node is not parent.left and isinstance(parent.ops[0], (ast.In, ast.NotIn))
+        if isinstance(parent, ast.Attribute):
+            statement = self.parents[self.parents[parent]]
+            return parent.attr in ("add", "discard") and isinstance(statement, ast.Expr)
+        if isinstance(parent, ast.Call):
+            return isinstance(parent.func, ast.Name) and parent.func.id in ("len", "sorted") and parent.args[0] is node
+        return isinstance(parent, (ast.If, ast.While, ast.IfExp)) and parent.test is node
+
+    def check_comprehension_size(self, node):
+        if len(node.generators) > 6 or sum(len(each.ifs) for each in node.generators) > 12:
+            self.say(node, "L7", "a comprehension with too many parts")
+
+    check_ListComp = check_DictComp = check_comprehension_size
+
     def check_special(self, node):
         if node.name not in SPECIAL:
             self.say(node, "L5", f"the method {node.name}")
@@ -199,6 +236,9 @@ class Checker:
         names = [each.name for each in node.body if isinstance(each, ast.FunctionDef)]
         if len(names) != len(set(names)):
             self.say(node, "L18", "a method that is defined twice")
+        if any(isinstance(each, ast.Attribute) and ast.unparse(each.value) == "self" and each.attr in names
+               and isinstance(each.ctx, ast.Store) for each in ast.walk(node)):
+            self.say(node, "L18", "a name that is a method and an attribute")
         for each in node.body:
             if not isinstance(each, (ast.FunctionDef, ast.Pass)) and getattr(each, "value", 0) not in self.docstrings:
                 self.say(each, "L5", "something else than a method in a class")
@@ -251,6 +291,15 @@ class Checker:
             self.say(node, "L24", "a set at this place")
         if not isinstance(node.func, (ast.Name, ast.Attribute, ast.Subscript)):
             self.say(node, "L7", "a call of something else than a name")
+        if name in self.package.parameters and not any(isinstance(each, ast.Starred) for each in node.args):
+            self.check_passed(node, self.package.parameters[name])
+
+    def check_passed(self, node, parameters):
+        """Each call of an own function passes what it takes, no more and no less."""
+        names, needed = parameters
+        passed = names[:len(node.args)] + [each.arg for each in node.keywords]
+        if len(node.args) > len(names) or len(set(passed)) < len(passed) or not set(needed) <= set(passed) <= set(names):
+            self.say(node, "L22", f"{node.func.id} takes other arguments")
 
     def is_iterated(self, node):
         parent = self.parents[node]
@@ -269,6 +318,8 @@ class Checker:
                 and parent.func.id in ("sorted", "len") and not parent.keywords)
 
     def check_SetComp(self, node):
+        if isinstance(node, ast.SetComp):
+            self.check_comprehension_size(node)
         if not self.is_set_place(node):
             self.say(node, "L24", "a set at this place")
 
@@ -343,6 +394,11 @@ class Package:
         self.attributes = {node.attr for node in nodes if isinstance(node, ast.Attribute)
                            and isinstance(node.ctx, ast.Store)}
         self.errors = {node.name for node in classes if node.bases}
+        # The functions at the module level of some file, by names that nothing else that is defined has.
+        functions = [node for tree in self.trees.values() for node in tree.body if isinstance(node, ast.FunctionDef)]
+        names = [node.name for node in nodes if isinstance(node, ast.FunctionDef)]
+        names += [node.arg for node in nodes if isinstance(node, ast.arg)]
+        self.parameters = {node.name: told_parameters(node) for node in functions if names.count(node.name) == 1}
 
     def read(self):
         names = sorted(name for name in os.listdir(self.folder) if name != "__pycache__")
@@ -384,6 +440,28 @@ def defined_names(node):
     if isinstance(node, (ast.FunctionDef, ast.ClassDef)):
         return [node.name]
     return [each.id for each in getattr(node, "targets", []) if isinstance(each, ast.Name)]
+
+
+def told_parameters(function):
+    """The names of the parameters of a function, and of those that have no default value."""
+    names = [each.arg for each in function.args.args]
+    return names, names[:len(names) - len(function.args.defaults)]
+
+
+def is_set(value):
+    if isinstance(value, (ast.Set, ast.SetComp)):
+        return True
+    return isinstance(value, ast.Call) and isinstance(value.func, ast.Name) and value.func.id == "set"
+
+
+def own_nodes(function):
+    """The nodes of a function without those of the functions that are nested in it."""
+    left = list(function.body)
+    while left:
+        node = left.pop()
+        yield node
+        if not isinstance(node, ast.FunctionDef):
+            left.extend(ast.iter_child_nodes(node))
 
 
 def check(folder):

@@ -2,6 +2,9 @@
 
 from moredone.words import common_parts, copied, greatest_of, in_order, is_log, is_part, least_both
 
+# The base that each log does.
+ALWAYS = ((),)
+
 
 def is_base(thing):
     """Whether the thing is a BASE: a tuple of LOGs, none a part of another one, in order."""
@@ -12,9 +15,12 @@ def is_base(thing):
 
 def base_of(logs):
     """The base that is done by just the logs that have one of these as a part."""
-    words = []
+    words, shorter = [], []
     for log in in_order(copied(logs)):
-        if not does(words, log):
+        # Of two unlike logs of as many events none is a part of the other.
+        if words and len(words[-1]) < len(log):
+            shorter = list(words)
+        if not does(shorter, log):
             words.append(log)
     return tuple(words)
 
@@ -62,7 +68,7 @@ def then(one, other):
 
 def times(base, number):
     """So many times the base, joined by then; always for 0."""
-    joined = ((),)
+    joined = ALWAYS
     for _ in range(number):
         joined = then(joined, base)
     return joined
@@ -79,6 +85,12 @@ def outside(one, other):
         if not does(other, word):
             return tuple(word)
     return None
+
+
+def least_parting(one, other):
+    """The least log that does just one of the two bases; None if the same logs do both."""
+    logs = [log for log in (outside(one, other), outside(other, one)) if log is not None]
+    return in_order(logs)[0] if logs else None
 
 
 def missing(base, other):
@@ -105,7 +117,7 @@ def is_checklist(base):
         return False
     # The least logs that have all parts so far and do not do the base: with one of them left at the end,
     # the parts are not enough. What does the base already does it with more events, too, and is left out.
-    without = ((),)
+    without = ALWAYS
     for part in parts:
         longer = [log for less in without for log in least_both(less, part)]
         without = base_of([log for log in longer if not does(words, log)])
@@ -118,7 +130,7 @@ def stages(base):
     if not left:
         return None
     row = []
-    while left != ((),):
+    while left != ALWAYS:
         stage, left = _first_stage(left)
         row.append(stage)
     return tuple(row)
@@ -130,7 +142,7 @@ def _first_stage(base):
         one, other = _sides(base, at)
         if then(one, other) == base:
             return one, other
-    return base, ((),)
+    return base, ALWAYS
 
 
 def _sides(base, at):

@@ -1,8 +1,8 @@
 """Rules: objects that are put together with signs, and that have a base."""
 
-from moredone.bases import both, either, is_inside, outside, then, times
+from moredone.bases import ALWAYS, both, either, is_inside, least_parting, then, times
 from moredone.errors import NoName
-from moredone.words import copied, in_order, is_name
+from moredone.words import copied, is_name
 
 SEEN = "seen"
 NOTHING = "1"
@@ -159,7 +159,7 @@ def base(rule):
     if rule.sign == SEEN:
         return ((rule.one,),)
     if rule.sign == NOTHING:
-        return ((),)
+        return ALWAYS
     if rule.sign == NEVER:
         return ()
     if rule.sign == TIMES:
@@ -204,9 +204,7 @@ def goes_with(rule, other):
 
 def parting(rule, other):
     """The least log that does one of both and not the other; None if they are alike."""
-    one, two = base(rule), base(other)
-    logs = [log for log in (outside(one, two), outside(two, one)) if log is not None]
-    return in_order(logs)[0] if logs else None
+    return least_parting(base(rule), base(other))
 
 
 def turned(rule):

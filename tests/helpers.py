@@ -36,6 +36,12 @@ def parts_of(log):
     return {tuple(log[at] for at in chosen) for many in range(len(log) + 1) for chosen in choices(len(log), many)}
 
 
+def has_part(word, log):
+    """The same as in parts_of(log), for logs that have too many parts."""
+    left = iter(log)
+    return all(event in left for event in word)
+
+
 class Parts:
     """The parts of logs, each kept once it was asked for."""
 
@@ -86,6 +92,53 @@ def done_times(rule, number, log):
     if number == 0:
         return True
     return done_then(lambda ahead: done_times(rule, number - 1, ahead), rule, log)
+
+
+def subsets(rows):
+    """All choices of some of the rows, those of fewer first, each in the order of the rows."""
+    return [chosen for many in range(len(rows) + 1) for chosen in itertools.combinations(rows, many)]
+
+
+def at_places(log, places):
+    """The log of the events at these places alone."""
+    return tuple(event for at, event in enumerate(log) if at in places)
+
+
+def without_places(log, places):
+    return tuple(event for at, event in enumerate(log) if at not in places)
+
+
+def orders_of(logs):
+    """All orders of the logs, the least first."""
+    many = [len(log) for log in logs]
+
+    def orders(left):
+        if not any(left):
+            return [()]
+        return [(source,) + order for source in range(len(left)) if left[source]
+                for order in orders([count - (at == source) for at, count in enumerate(left)])]
+
+    return orders(many)
+
+
+def weave(logs, order):
+    """The weaving of an order: each number stands for what its source has next."""
+    left = [iter(log) for log in logs]
+    return tuple(next(left[source]) for source in order)
+
+
+def place_in(order, source, place):
+    """Where the event of this source at this place there stands in an order."""
+    return [at for at, each in enumerate(order) if each == source][place]
+
+
+def keeps(order, known):
+    return all(place_in(order, *first) < place_in(order, *second) for first, second in known)
+
+
+def weavings(one, other):
+    """The set of all logs in which the events of both stand, those of each in their own order."""
+    return {weave((one, other), order) for order in orders_of((one, other))}
 
 
 def as_lists(value):
