@@ -33,6 +33,7 @@ KEYWORDS = {"sorted": {"key", "reverse"}, "min": {"key", "default"}, "max": {"ke
             "enumerate": {"start"}, "zip": {"strict"}}
 AT_ONCE = {"zip", "enumerate", "reversed", "range"}
 VIEWS = {"items", "keys", "values"}
+CHANGES = set("append clear extend insert pop remove reverse setdefault update add discard".split())
 TAKERS = set("list tuple dict sorted sum any all enumerate zip min max".split())
 NODES = set("""Module Expr Assign AugAssign For While If Return Break Continue Pass Raise Assert Delete Try
     ExceptHandler FunctionDef ClassDef ImportFrom alias arguments arg keyword Load Store Del Name Attribute Subscript
@@ -125,6 +126,8 @@ class Checker:
         self.fixed = {each.asname or each.name for node in self.tree.body if isinstance(node, ast.ImportFrom)
                       for each in node.names}
         self.fixed |= {node.name for node in self.tree.body if isinstance(node, ast.ClassDef)}
+        self.library = {each.name for node in self.tree.body if isinstance(node, ast.ImportFrom)
+                        and node.module in LIBRARY for each in node.names}
 
     def check_plain(self, value):
         for node in ast.walk(value):
@@ -221,6 +224,19 @@ class Checker:
             names = [each.arg for each in node.args.args]
             if len(names) != 2 or names[0] != "self" or node.args.defaults or node.args.vararg or node.args.kwarg:
                 self.say(node, "L5", f"the parameters of {node.name}")
+        if node.name in ("__eq__", "__len__", "__contains__", "__getitem__"):
+            self.check_quiet(node)
+
+    def check_quiet(self, node):
+        """These assign and change nothing here, and end with what they return; __len__ with len(..)."""
+        for each in ast.walk(node):
+            kept = isinstance(each, (ast.Attribute, ast.Subscript)) and not isinstance(each.ctx, ast.Load)
+            if kept or isinstance(each, (ast.AugAssign, ast.Delete)):
+                self.say(each, "L5/L28", f"{node.name} changes something")
+            if isinstance(each, ast.Call) and isinstance(each.func, ast.Attribute) and each.func.attr in CHANGES:
+                self.say(each, "L5/L28", f"{node.name} changes something")
+            if node.name == "__len__" and isinstance(each, ast.Return) and not is_len(each.value):
+                self.say(each, "L28", "__len__ returns something else than len(..)")
 
     def check_arg(self, node):
         if node.annotation is not None:
@@ -234,6 +250,8 @@ class Checker:
             self.say(node, "L5", "a class with a decorator or keywords, or inside of something")
         self.check_name(node, node.name)
         names = [each.name for each in node.body if isinstance(each, ast.FunctionDef)]
+        if "__getitem__" in names and ("__iter__" not in names or "keys" in self.package.methods):
+            self.say(node, "L5", "__getitem__ without __iter__, or with a method keys")
         if len(names) != len(set(names)):
             self.say(node, "L18", "a method that is defined twice")
         if any(isinstance(each, ast.Attribute) and ast.unparse(each.value) == "self" and each.attr in names
@@ -253,6 +271,10 @@ class Checker:
         elif node.id == "property":
             if not isinstance(self.parents[node], ast.FunctionDef):
                 self.say(node, "L8", "property is read")
+        elif node.id in self.library:
+            parent = self.parents[node]
+            if not isinstance(parent, ast.Call) or parent.func is not node or parent.keywords:
+                self.say(node, "L2", f"{node.id} is not called by position")
         elif node.id in BUILTINS and node.id not in FUNCTIONS | ERRORS:
             self.say(node, "L8", f"the builtin {node.id}")
         elif node.id in FUNCTIONS:
@@ -362,14 +384,17 @@ class Checker:
                 self.say(node, "L27", "an exponent that is not a literal from 0 to 64")
 
     def check_For(self, node):
-        if isinstance(node.iter, ast.Name):
-            self.check_unchanged(node, node.iter.id)
+        for name in iterated(node.iter):
+            self.check_unchanged(node, name)
+
+    def check_comprehension(self, node):
+        for name in iterated(node.iter):
+            self.check_unchanged(self.parents[node], name)
 
     def check_unchanged(self, loop, name):
-        changes = set("append clear extend insert pop remove reverse setdefault update add discard".split())
         for node in ast.walk(loop):
             if isinstance(node, ast.Call) and isinstance(node.func, ast.Attribute):
-                if node.func.attr in changes and ast.unparse(node.func.value) == name:
+                if node.func.attr in CHANGES and ast.unparse(node.func.value) == name:
                     self.say(node, "L23", f"{name} is changed while it is iterated")
             if isinstance(node, ast.Subscript) and not isinstance(node.ctx, ast.Load):
                 if ast.unparse(node.value) == name:
@@ -446,6 +471,25 @@ def told_parameters(function):
     """The names of the parameters of a function, and of those that have no default value."""
     names = [each.arg for each in function.args.args]
     return names, names[:len(names) - len(function.args.defaults)]
+
+
+def iterated(value):
+    """What a loop over this value goes over, as it is written: names and attributes, also within zip and its like."""
+    if isinstance(value, (ast.Name, ast.Attribute)):
+        return [ast.unparse(value)]
+    if isinstance(value, ast.IfExp):
+        return iterated(value.body) + iterated(value.orelse)
+    if isinstance(value, ast.BoolOp):
+        return [name for each in value.values for name in iterated(each)]
+    if isinstance(value, ast.Call) and isinstance(value.func, ast.Name) and value.func.id in AT_ONCE - {"range"}:
+        return [name for each in value.args for name in iterated(each)]
+    if isinstance(value, ast.Call) and isinstance(value.func, ast.Attribute) and value.func.attr in VIEWS:
+        return iterated(value.func.value)
+    return []
+
+
+def is_len(value):
+    return isinstance(value, ast.Call) and isinstance(value.func, ast.Name) and value.func.id == "len"
 
 
 def is_set(value):

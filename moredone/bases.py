@@ -38,6 +38,11 @@ def names_in(base):
     return tuple(sorted({event for word in base for event in word}))
 
 
+def words_of(base, names):
+    """The base of those words of the base that are made of these names alone."""
+    return tuple([word for word in copied(base) if all([event in names for event in word])])
+
+
 def either(one, other):
     """The base that a log does if it does one or other."""
     return base_of(copied(one) + copied(other))

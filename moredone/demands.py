@@ -4,46 +4,97 @@ A demand is a pair (base, number): a base that is to be done, and a number that 
 what the number means is said where it is used. Behind an event other demands are left, and they only get easier.
 """
 
-from moredone.bases import ALWAYS, base_of, is_inside, names_in
+from moredone.bases import ALWAYS, is_inside, names_in
 from moredone.standings import standing
+from moredone.words import in_order
 
 
-def hardest(demands):
-    """The tuple of those demands that are not met anyway or along with another one of them, ascending."""
-    wanted = sorted({demand for demand in demands if demand[0] != ALWAYS})
-    return tuple([demand for demand in wanted if not any([_is_harder(other, demand) for other in wanted])])
+class Demands:
+    """Demands that logs of some names are to meet, and what is left of them behind events.
 
-
-def _is_harder(one, other):
-    """Whether one is another demand, and other is met by each log that meets it."""
-    return one != other and one[1] >= other[1] and is_inside(one[0], other[0])
-
-
-def meeting(demands, names, after, found):
-    """The base of the logs that meet all demands, which are the hardest ones of some.
-
-    Its words are made of these names. after(demands, name) gives the hardest ones of those that are left behind an
-    event of this name. What is found for each row of demands is kept in the dict found.
+    Inside, a demand is told by a number, and several of them by a row: an ascending tuple of such numbers.
     """
-    if not demands:
-        return ALWAYS
-    if demands not in found:
-        logs = []
-        for name in names:
-            left = after(demands, name)
-            # An event by which nothing changes is in no least log.
-            if left != demands:
-                logs.extend([(name,) + log for log in meeting(left, names, after, found)])
-        found[demands] = base_of(logs)
-    return found[demands]
+
+    def __init__(self, names, behind):
+        """behind(demand, name) tells the list of the demands that are left of one behind an event of this name."""
+        self.names = names
+        self.behind = behind
+        self.told = []
+        self.numbers = {}
+        self.harder = {}
+        self.left = {}
+        self.later = {}
+        self.least = {(): [()]}
+
+    def meeting(self, demands):
+        """The base of the logs that meet all of these demands."""
+        return tuple(self._least_logs(self._hardest([self._number(demand) for demand in demands])))
+
+    def hardest(self, demands):
+        """The list of those demands that are not met anyway or along with another one of them."""
+        return [self.told[number] for number in self._hardest([self._number(demand) for demand in demands])]
+
+    def _number(self, demand):
+        """The number that tells this demand."""
+        if demand not in self.numbers:
+            self.numbers[demand] = len(self.told)
+            self.told.append(demand)
+        return self.numbers[demand]
+
+    def _hardest(self, numbers):
+        """The row of the hardest ones of these demands."""
+        wanted = [number for number in sorted(set(numbers)) if self.told[number][0] != ALWAYS]
+        return tuple([each for each in wanted if not any([self._is_harder(other, each) for other in wanted])])
+
+    def _is_harder(self, one, other):
+        """Whether one is another demand, and other is met by each log that meets it."""
+        key = (one, other)
+        if key not in self.harder:
+            (base, many), (second, most) = self.told[one], self.told[other]
+            self.harder[key] = one != other and many >= most and is_inside(base, second)
+        return self.harder[key]
+
+    def _left_of(self, number, name):
+        """The list of the numbers of the demands that are left of one behind an event."""
+        key = (number, name)
+        if key not in self.left:
+            self.left[key] = [self._number(demand) for demand in self.behind(self.told[number], name)]
+        return self.left[key]
+
+    def _after(self, row, name):
+        """The row of the hardest demands that are left of those of a row behind an event."""
+        key = (row, name)
+        if key not in self.later:
+            self.later[key] = self._hardest([left for number in row for left in self._left_of(number, name)])
+        return self.later[key]
+
+    def _is_met(self, row, log):
+        """Whether the log meets all demands of the row."""
+        for event in log:
+            row = self._after(row, event)
+        return row == ()
+
+    def _least_logs(self, row):
+        """The list of the least logs that meet all demands of the row, in order."""
+        if row not in self.least:
+            logs = []
+            for name in self.names:
+                left = self._after(row, name)
+                # An event by which nothing changes is in no least log. Of others only the first event can be too
+                # much, as what stands behind it is least.
+                if left != row:
+                    logs.extend([(name,) + log for log in self._least_logs(left) if not self._is_met(row, log)])
+            self.least[row] = in_order(logs)
+        return self.least[row]
 
 
-def behind_event(demands, name):
-    """What is left of demands whose numbers mean nothing."""
-    return hardest([(standing(base, (name,)), number) for base, number in demands])
+def behind_event(demand, name):
+    """What is left of a demand whose number means nothing."""
+    base, number = demand
+    return [(standing(base, (name,)), number)]
 
 
 def done_by_all(bases):
     """The base of the logs that do each of these bases."""
     names = names_in([word for base in bases for word in base])
-    return meeting(hardest([(base, 0) for base in bases]), names, behind_event, {})
+    return Demands(names, behind_event).meeting([(base, 0) for base in bases])

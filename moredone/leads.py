@@ -1,7 +1,7 @@
 """What leads into a base: the weakest bases that do ahead of given ones, behind them, or between them."""
 
 from moredone.bases import ALWAYS, base_of, is_base, names_in, then
-from moredone.demands import behind_event, done_by_all, hardest, meeting
+from moredone.demands import Demands, behind_event, done_by_all
 from moredone.standings import standing, standings
 from moredone.words import copied, front
 
@@ -36,13 +36,12 @@ def pairs(base):
 def _ends(base):
     """The list of all bases that are rest_of the base and another one."""
     # They are what some standings of the base, or none of them, have in common.
+    demands = Demands(names_in(base), behind_event)
     rows = {(): True}
     for begun in standings(base):
         for row in list(rows):
-            rows[hardest(row + ((begun, 0),))] = True
-    found = {}
-    names = names_in(base)
-    return list({meeting(row, names, behind_event, found): True for row in rows})
+            rows[tuple(demands.hardest(row + ((begun, 0),)))] = True
+    return list({demands.meeting(row): True for row in rows})
 
 
 def splits(base):

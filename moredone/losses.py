@@ -1,7 +1,7 @@
 """Losses: which events of a log may get lost, and what is done whichever are."""
 
 from moredone.bases import ALWAYS, does, names_in
-from moredone.demands import hardest, meeting
+from moredone.demands import Demands
 from moredone.standings import Steps, standing
 from moredone.words import copied, is_part
 
@@ -80,13 +80,14 @@ def withstands(base, log, many):
 def hardened(base, many):
     """The base of the logs that do base whichever so many of their events, or fewer, are lost."""
     # The number of a demand is how many events may get lost yet.
-    return meeting(hardest([(copied(base), many)]), names_in(base), _behind_event_or_loss, {})
+    return Demands(names_in(base), _behind_event_or_loss).meeting([(copied(base), many)])
 
 
-def _behind_event_or_loss(demands, name):
-    """What is left of demands behind an event that may get lost."""
-    left = [(base, many - 1) for base, many in demands if many]
-    return hardest([(standing(base, (name,)), many) for base, many in demands] + left)
+def _behind_event_or_loss(demand, name):
+    """What is left of a demand behind an event that may get lost."""
+    base, many = demand
+    left = [(standing(base, (name,)), many)]
+    return left + [(base, many - 1)] if many else left
 
 
 def kernel(base, log):

@@ -1,10 +1,10 @@
 """Woven logs: several sources in all orders that keep what is known, and events that are dealt out."""
 
 from moredone.bases import ALWAYS, base_of, does, names_in
-from moredone.demands import done_by_all, hardest, meeting
+from moredone.demands import Demands, done_by_all
 from moredone.errors import Tangled
 from moredone.standings import Steps, standing
-from moredone.words import copied
+from moredone.words import ascends, copied, is_number
 
 
 def woven(logs, order):
@@ -24,15 +24,10 @@ def is_order(logs, known, thing):
     ahead = _events_ahead(known)
     came = (0,) * len(logs)
     for source in thing:
-        if not _is_number(source) or source not in _next_sources(logs, ahead, came):
+        if not is_number(source) or source not in _next_sources(logs, ahead, came):
             return False
         came = _with_one_of(came, source)
     return len(thing) == sum([len(log) for log in logs])
-
-
-def _is_number(value):
-    """Whether the value is a number."""
-    return isinstance(value, int) and not isinstance(value, bool)
 
 
 def _events_ahead(known):
@@ -182,17 +177,17 @@ def _beside_word(base, word):
     """The base of the logs each of whose weavings with the word does base."""
 
     # The number of a demand is how many events of the word came already: any further ones may come at any time.
-    def opened(demands):
-        """The hardest ones of these demands and of those that are left of them behind further events of the word."""
-        found = [(standing(left, word[many:end]), end) for left, many in demands
-                 for end in range(many, len(word) + 1)]
-        return hardest([(left, many) for left, many in found if not does(left, word[many:])])
+    def opened(left, many):
+        """What is left to be done if this is left behind so many events of the word, or behind more of them."""
+        found = [(standing(left, word[many:end]), end) for end in range(many, len(word) + 1)]
+        return [(wanted, came) for wanted, came in found if not does(wanted, word[came:])]
 
-    def after(demands, name):
-        """What is left of demands behind an event that is none of the word."""
-        return opened([(standing(left, (name,)), many) for left, many in demands])
+    def behind(demand, name):
+        """What is left of a demand behind an event that is none of the word."""
+        left, many = demand
+        return opened(standing(left, (name,)), many)
 
-    return meeting(opened([(base, 0)]), names_in(base), after, {})
+    return Demands(names_in(base), behind).meeting(opened(base, 0))
 
 
 def most_apart(word, log):
@@ -227,11 +222,11 @@ def is_taken(word, log, thing):
     if not isinstance(thing, tuple) or not all([_is_choice(word, log, places) for places in thing]):
         return False
     told = [place for places in thing for place in places]
-    return len(set(told)) == len(told) and tuple(sorted(thing)) == thing
+    return len(set(told)) == len(told) and ascends(thing)
 
 
 def _is_choice(word, log, thing):
     """Whether the thing is an ascending tuple of places of the log at which the events of the word stand."""
-    if not isinstance(thing, tuple) or not all([_is_number(place) and 0 <= place < len(log) for place in thing]):
+    if not isinstance(thing, tuple) or not all([is_number(place) and 0 <= place < len(log) for place in thing]):
         return False
-    return tuple(sorted(set(thing))) == thing and [log[place] for place in thing] == list(word)
+    return ascends(thing) and [log[place] for place in thing] == list(word)

@@ -8,6 +8,16 @@ def is_name(value):
     return 1 <= len(value) <= 8 and all(["a" <= letter <= "z" for letter in value])
 
 
+def is_number(value):
+    """Whether the value is a number: an integer that is not True or False."""
+    return isinstance(value, int) and not isinstance(value, bool)
+
+
+def ascends(row):
+    """Whether the row, a tuple, ascends by comparison, without repetitions."""
+    return tuple(sorted(set(row))) == row
+
+
 def is_log(thing):
     """Whether the thing is a LOG: a tuple of NAMEs."""
     return isinstance(thing, tuple) and all([is_name(event) for event in thing])

@@ -151,3 +151,36 @@ def has_list(value):
     if isinstance(value, list):
         return True
     return isinstance(value, tuple) and any(has_list(each) for each in value)
+
+
+def all_classes(names):
+    """All CLASSES of these names."""
+    if not names:
+        return [()]
+    first, others = names[0], tuple(names[1:])
+    found = []
+    for beside in subsets(others):
+        left = tuple(name for name in others if name not in beside)
+        mine = ((first, *beside),) if beside else ()
+        found += [mine + classes for classes in all_classes(left)]
+    return found
+
+
+def coarse_of(log, classes):
+    """The coarse log of a log."""
+    return tuple(next((names[0] for names in classes if event in names), event) for event in log)
+
+
+def finer_of(log, classes):
+    """All logs that have this coarse log, the least first."""
+    return list(itertools.product(*(next((names for names in classes if event == names[0]), (event,))
+                                    for event in log)))
+
+
+def caught(call):
+    """What a call raises: the name of the class and the values that it keeps; None if it raises nothing."""
+    try:
+        call()
+    except ValueError as error:
+        return type(error).__name__, *vars(error).values()
+    return None

@@ -7,102 +7,10 @@ import itertools
 import os
 import unittest
 
-from moredone import bases, errors, leads, losses, rules, standings, weaves, words
-from tests.helpers import as_lists, has_list
+from moredone import asks, bases, coarse, costs, errors, leads, losses, numbers, rules, standings, weaves, words
+from tests.calls import A, AB, BACK, CALL, CALLS, GATES, GOAL, LOG, ORDER, PAID, PAIR, THINGS
+from tests.helpers import as_lists, caught, has_list
 
-ORDER, CALL = (("a", "b"), ("b", "a", "a")), (("c",), ("a", "a"))
-BACK = (("a", "b", "a"), ("b", "a", "b"))
-LOG = ("b", "a", "c", "b", "a")
-A, B, AB, AA = (("a",),), (("b",),), (("a", "b"),), (("a", "a"),)
-TWO = (("a", "b"), ("b", "a"))
-GATES, KNOWN = (("a", "b"), ("b",)), (((0, 0), (1, 0)),)
-
-# The functions of the interface with their arguments, and calls of them with what they return. (Where the document
-# leaves open which one of several is told, these are calls for which there is just one.)
-CALLS = {
-    words.is_part: (("word", "log"), [(("a", "b"), LOG, True), (("c", "c"), LOG, False), ((), (), True)]),
-    words.places: (("word", "log"), [(("a", "b"), LOG, (1, 3)), (("c", "c"), LOG, None), ((), LOG, ())]),
-    words.ways: (("word", "log"), [(("b", "a"), LOG, 3), (("a", "a", "a"), LOG, 0), ((), LOG, 1)]),
-    words.rest: (("word", "log"), [(("c", "a", "b"), LOG, ("b",)), (("d", "a"), LOG, ("d", "a")), ((), LOG, ())]),
-    words.front: (("word", "log"), [(("b", "c", "b", "c"), LOG, ("b", "c")), (("a", "a"), LOG, ())]),
-    words.least_both: (("one", "other"), [(("a", "b"), ("b", "a"), BACK), ((), ("a",), (("a",),))]),
-    words.common_parts: (("one", "other"), [(("a", "b"), ("b", "a"), (("a",), ("b",))), (("a",), (), ((),))]),
-    bases.base_of: (("logs",), [((("b", "a"), ("a",), ("b", "b")), (("a",), ("b", "b"))), ((), ()), (((),), ((),))]),
-    bases.does: (("base", "log"), [(ORDER, ("b", "a", "b"), True), (ORDER, ("b", "a"), False), (((),), (), True)]),
-    bases.names_in: (("base",), [(CALL, ("a", "c")), ((), ())]),
-    bases.either: (("one", "other"), [(ORDER, CALL, (("c",), ("a", "a"), ("a", "b"))), ((), CALL, CALL)]),
-    bases.both: (("one", "other"), [((("a",),), (("b",),), (("a", "b"), ("b", "a"))), (((),), CALL, CALL)]),
-    bases.then: (("one", "other"), [(CALL, (("b",),), (("c", "b"), ("a", "a", "b"))), ((), CALL, ()),
-                                    ((("b",),), CALL, (("b", "c"), ("b", "a", "a")))]),
-    bases.times: (("base", "number"), [(CALL, 2, (("c", "c"), ("a", "a", "c"), ("c", "a", "a"), ("a",) * 4)),
-                                       (CALL, 0, ((),)), ((), 2, ())]),
-    bases.is_inside: (("one", "other"), [(CALL, ORDER, False), ((("a", "b", "a"),), ORDER, True)]),
-    bases.outside: (("one", "other"), [(CALL, ORDER, ("c",)), (ORDER, CALL, ("a", "b")), (CALL, CALL, None)]),
-    bases.missing: (("base", "other"), [(CALL, ORDER, (("a", "b"),)), (ORDER, CALL, CALL), (CALL, CALL, ())]),
-    bases.common: (("base",), [(BACK, (("a", "b"), ("b", "a"))), (CALL, ((),)), ((), None),
-                               ((("a", "c"),), (("a", "c"),))]),
-    bases.is_checklist: (("base",), [(BACK, True), (CALL, False), ((), False)]),
-    bases.stages: (("base",), [((("a", "b"), ("c", "b")), ((("a",), ("c",)), (("b",),))), (((),), ()), ((), None)]),
-    standings.standing: (("base", "log"), [(ORDER, ("c", "b"), (("a", "a"), ("a", "b"))), (CALL, LOG, ((),)),
-                                           ((), LOG, ()), (CALL, (), CALL)]),
-    standings.helpful: (("base", "log"), [(CALL, ("a",), ("a", "c")), (CALL, LOG, ()), (AB, ("a",), ("b",))]),
-    standings.further: (("base", "log"), [(CALL, ("a",), ("a",)), (CALL, LOG, ()), ((), LOG, None)]),
-    standings.helped: (("base", "log"), [(CALL, LOG, (1, 2)), (AB, LOG, (1, 3)), ((), LOG, ())]),
-    standings.is_ahead: (("base", "one", "other"), [(TWO, (), ("a",), True), (TWO, ("a",), ("b",), False),
-                                                    (AB, ("b",), ("a",), True), (AB, ("a",), ("b",), False)]),
-    standings.same: (("base", "one", "other"), [(CALL, ("b",), (), True), (CALL, ("a",), (), False)]),
-    standings.parting_end: (("base", "one", "other"), [(AB, ("a",), (), ("b",)), (AB, ("b",), (), None),
-                                                       (AB, ("a",), ("a", "b"), ())]),
-    standings.standings: (("base",), [(AB, [((),), AB, B]), ((), [()])]),
-    standings.moves: (("base",), [(AB, [(AB, "a", B), (B, "b", ((),))]), ((), [])]),
-    standings.longest_helping: (("base",), [((("a", "b", "a"),), ("a", "b", "a")), (AA, ("a", "a")), ((), ())]),
-    losses.without: (("log", "places"), [(LOG, (3, 0), ("a", "c", "a")), (LOG, (-1, 9), LOG), ((), (0,), ())]),
-    losses.needed: (("base", "log"), [(AB, LOG, (1, 3)), (TWO, LOG, ()), ((), LOG, ())]),
-    losses.idle: (("base", "log"), [(AB, LOG, (0, 2, 4)), (B, LOG, (1, 2, 4)), ((), LOG, (0, 1, 2, 3, 4))]),
-    losses.fewest_losses: (("base", "log"), [(B, LOG, (0, 3)), (((),), LOG, None), ((("d",),), LOG, ())]),
-    losses.withstands: (("base", "log", "many"), [(B, LOG, 1, True), (B, LOG, 2, False), (((),), LOG, 10 ** 30, True)]),
-    losses.hardened: (("base", "many"), [(AB, 1, (("a", "a", "b", "b"), ("a", "b", "a", "b"))), (CALL, 0, CALL),
-                                         (AA, 2, (("a",) * 4,)), ((), 3, ())]),
-    losses.kernel: (("base", "log"), [(AB, LOG, (1, 3)), ((("c",), ("b", "b")), LOG, (2,)), ((), LOG, ())]),
-    losses.setback: (("base", "log"), [(B, LOG, (0, 3)), ((("d",),), LOG, None), (((),), LOG, None)]),
-    weaves.woven: (("logs", "order"), [(GATES, (1, 0, 0), ("b", "a", "b")), ((), (), ())]),
-    weaves.is_weaving: (("logs", "log", "known"), [(GATES, ("b", "a", "b"), (), True), (GATES, ("b", "a", "b"), KNOWN,
-                                                                                       False), ((), (), (), True)]),
-    weaves.in_some: (("base", "logs", "known"), [(TWO, GATES, (), True), ((("b", "a"),), GATES, KNOWN, False)]),
-    weaves.in_every: (("base", "logs", "known"), [(AB, GATES, (), True), ((("a", "b", "b"),), GATES, (), False),
-                                                  ((("a", "b", "b"),), GATES, KNOWN, True)]),
-    weaves.order_with: (("base", "logs", "known"), [((("b", "a"),), GATES, (), (1, 0, 0)), ((("c",),), GATES, (), None),
-                                                    ((("b", "a"),), GATES, KNOWN, None)]),
-    weaves.order_without: (("base", "logs", "known"), [((("a", "b", "b"),), GATES, (), (1, 0, 0)),
-                                                       (AB, GATES, KNOWN, None), ((), ((), A[0]), (), (1,))]),
-    weaves.how_many_orders: (("base", "logs", "known"), [((("b", "a"),), GATES, (), (1, 3)),
-                                                         ((), GATES, KNOWN, (0, 2))]),
-    weaves.soonest: (("base", "logs", "known"), [(B, GATES, (), 1), (B, GATES, KNOWN, 2), ((), GATES, (), None)]),
-    weaves.latest: (("base", "logs", "known"), [(B, GATES, (), 2), (A, GATES, KNOWN, 1), (TWO, GATES, (), 2),
-                                                ((("c",),), GATES, (), None)]),
-    weaves.apart: (("one", "other"), [(AB, (("c",),), (("a", "b", "c"), ("a", "c", "b"), ("c", "a", "b"))),
-                                      (CALL, (), ()), (A, TWO, (("a", "a", "b"), ("a", "b", "a"), ("b", "a", "a")))]),
-    weaves.apart_times: (("base", "number"), [(A, 3, (("a",) * 3,)), (CALL, 0, ((),)), ((), 10 ** 30, ())]),
-    weaves.beside: (("base", "other"), [(TWO, B, A), (AB, AB, ((),)), (AA, A, A), (CALL, (), ((),))]),
-    weaves.most_apart: (("word", "log"), [(("b", "a"), LOG, 2), (("c", "c"), LOG, 0)]),
-    weaves.taken: (("word", "log"), [(("b",), LOG, ((0,), (3,))), (("c", "a"), LOG, ((2, 4),)), (("c", "c"), LOG, ())]),
-    leads.lead: (("base", "other"), [((("a", "b", "a"),), A, AB), (TWO, (), ((),)), (TWO, A, B)]),
-    leads.rest_of: (("base", "other"), [((("a", "b", "a"),), A, (("b", "a"),)), (TWO, (), ((),)), (TWO, A, B)]),
-    leads.amid: (("base", "one", "other"), [((("a", "b", "a"),), A, A, B), (CALL, (), A, ((),)), (AB, ((),), A, AB)]),
-    leads.pairs: (("base",), [(AB, [(((),), AB), (A, B), (AB, ((),))]), ((), [((), ((),)), (((),), ())])]),
-    leads.splits: (("base",), [(AB, [(A, B)]), (A, []), ((), [])]),
-}
-# The functions that take a thing, with their arguments, and calls of them with what they return: no list does for a
-# tuple in the thing.
-THINGS = {
-    words.is_log: (("thing",), [(LOG, True), (("B",), False)]),
-    bases.is_base: (("thing",), [(ORDER, True), (((), ("a",)), False)]),
-    weaves.is_order: (("logs", "known", "thing"), [(GATES, (), (1, 0, 0), True), (GATES, KNOWN, (0, 1, 0), True),
-                                                   (GATES, KNOWN, (1, 0, 0), False), (GATES, (), (0, 0), False)]),
-    weaves.is_taken: (("word", "log", "thing"), [(("b", "a"), LOG, ((0, 1), (3, 4)), True),
-                                                 (("b", "a"), LOG, ((0, 1), (0, 4)), False)]),
-    leads.is_split: (("base", "thing"), [(AB, (A, B), True), (AB, (B, A), False)]),
-}
 OF_RULES = {
     rules.seen: ("name",), rules.nothing: (), rules.never: (), rules.base: ("rule",), rules.rule_of: ("words",),
     rules.alike: ("rule", "other"), rules.goes_with: ("rule", "other"), rules.parting: ("rule", "other"),
@@ -120,6 +28,16 @@ LISTED = {
     weaves: """woven is_order is_weaving in_some in_every order_with order_without how_many_orders soonest latest apart
         apart_times beside most_apart taken is_taken""",
     leads: "lead rest_of amid pairs splits is_split",
+    coarse: "is_classes coarse_log lifted possible certain is_told doubtful is_finer joined shared coarsest",
+    asks: "Finder shows paper",
+    numbers: "how_many nth number_of how_many_with first_sure longest_without growth chance expected",
+    costs: "cheapest cheapest_put cheapest_undoing notes are_notes lines",
+}
+# The classes of the interface with the names of the arguments of their methods.
+CLASSES = {
+    asks.Finder: {"__init__": ("names", "most"), "answered": ("log", "done"), "greatest": (), "forced": (), "found": (),
+                  "another": (), "sure": ("log",), "next_ask": (), "asks": (), "back": (), "__len__": (),
+                  "__eq__": ("other",)},
 }
 
 
@@ -134,7 +52,7 @@ class Interface(unittest.TestCase):
     def test_each_function_is_tried_here(self):
         tried = {function.__name__ for function in [*CALLS, *THINGS, *OF_RULES]}
         listed = {name for module in LISTED if module is not errors for name in LISTED[module].split()}
-        self.assertEqual(tried, listed)
+        self.assertEqual(tried, listed - {each.__name__ for each in CLASSES})
 
     def test_names_of_arguments(self):
         named = {**{function: names for function, (names, _) in [*CALLS.items(), *THINGS.items()]}, **OF_RULES}
@@ -151,6 +69,16 @@ class Interface(unittest.TestCase):
             self.assertIn(f"__{name}__", vars(rule))
         self.assertIn("text", vars(rule))
         self.assertIs(type(rules.never() | "a"), rule)
+
+    def test_methods_of_classes_stand_in_them(self):
+        for each, methods in CLASSES.items():
+            for name, arguments in methods.items():
+                self.assertIn(name, vars(each))
+                parameters = list(inspect.signature(vars(each)[name]).parameters.values())
+                self.assertEqual(tuple(parameter.name for parameter in parameters[1:]), arguments, name)
+                for parameter in parameters:
+                    self.assertEqual((parameter.kind, parameter.default),
+                                     (parameter.POSITIONAL_OR_KEYWORD, parameter.empty))
 
     def test_the_package_holds_nothing_but_its_files(self):
         folder = os.path.dirname(words.__file__)
@@ -220,6 +148,13 @@ class Calls(unittest.TestCase):
         order = weaves.order_with((("b", "a"),), GATES)
         self.assertTrue(weaves.is_weaving(GATES, weaves.woven(GATES, order)) and weaves.is_order(GATES, (), order))
         self.assertTrue(weaves.is_taken(("b",), LOG, weaves.taken(("b",), LOG)))
+        self.assertEqual(coarse.lifted(coarse.certain((("a",), ("b",)), PAIR), PAIR), (("a",), ("b",)))
+        self.assertTrue(coarse.is_classes(coarse.joined(PAIR, (("b", "c"),))))
+        self.assertTrue(asks.shows(("a", "b"), 2, AB, asks.paper(("a", "b"), 2, AB)))
+        self.assertEqual(numbers.number_of(AB, ("a", "b"), numbers.nth(AB, ("a", "b"), 4, 5)), 5)
+        price, left = costs.cheapest_undoing(GOAL, ("a", "c", "b"), PAID)
+        self.assertTrue(costs.are_notes(GOAL, ("a", "c", "b"), PAID, price, costs.notes(GOAL, ("a", "c", "b"), PAID)))
+        self.assertEqual(costs.cheapest_undoing(GOAL, left, PAID), (0, left))
 
     def test_results_do_not_hang_on_what_was_handed_in(self):
         given = [["a", "b"], ["c"]]
@@ -229,7 +164,11 @@ class Calls(unittest.TestCase):
                          lambda: losses.hardened(given, 0), lambda: losses.without(given[0], ()),
                          lambda: weaves.apart(given, ((),)), lambda: weaves.beside(given, ((),)),
                          lambda: weaves.woven(given, (0, 1, 0)), lambda: leads.lead(given, ((),)),
-                         lambda: leads.pairs([given[0]])):
+                         lambda: leads.pairs([given[0]]), lambda: coarse.coarse_log(given[0], given),
+                         lambda: coarse.lifted(given, ()), lambda: coarse.certain(given, ()),
+                         lambda: coarse.joined(given, ()), lambda: coarse.shared(given, given),
+                         lambda: asks.paper(("a", "b", "c"), 2, given), lambda: costs.cheapest_put(((),), given[0], ()),
+                         lambda: costs.cheapest_undoing((), given[0], ())):
             result = function()
             before = copy.deepcopy(result)
             given[0].append("z")
@@ -252,8 +191,10 @@ class Things(unittest.TestCase):
 
     def test_lists_for_tuples_but_not_in_the_thing(self):
         for function, names, values, result in self.calls():
-            for given in (as_lists(values[:-1]), [list(value) for value in values[:-1]],
-                          [tuple(as_lists(each) for each in value) for value in values[:-1]]):
+            outer = [list(value) if isinstance(value, tuple) else value for value in values[:-1]]
+            inner = [tuple(as_lists(each) for each in value) if isinstance(value, tuple) else value
+                     for value in values[:-1]]
+            for given in (as_lists(values[:-1]), outer, inner):
                 before = copy.deepcopy(given)
                 self.assertIs(function(*given, values[-1]), result)
                 self.assertIs(function(**dict(zip(names, [*given, values[-1]]))), result)
@@ -270,6 +211,46 @@ class Things(unittest.TestCase):
                 self.assertIs(function(*values[:-1], given), False)
                 self.assertEqual(given, kept)
             self.assertEqual(thing, before)
+
+
+class OfFinders(unittest.TestCase):
+    def test_by_place_and_by_name(self):
+        one, other = asks.Finder(("a", "b"), 2), asks.Finder(most=2, names=["a", "b"])
+        self.assertIsNone(one.answered(("a", "b"), True))
+        self.assertIsNone(other.answered(done=True, log=["a", "b"]))
+        self.assertTrue(one == other)
+        self.assertEqual(caught(lambda: one.answered(log=["a", "c"], done=True)), ("NoName", "c"))
+        self.assertEqual(caught(lambda: one.answered(done=False, log=["a", "b", "b"])), ("Gainsaid", ("a", "b", "b")))
+        self.assertEqual(caught(lambda: one.sure(log=["c"])), ("NoName", "c"))
+        self.assertEqual([one.sure(log=["a", "b"]), one.sure(("a", "b")), one.sure(log=["b"])], [True, True, None])
+        self.assertEqual([one.asks(), other.asks()], [[(("a", "b"), True)]] * 2)
+
+    def test_lists_for_tuples(self):
+        finder = asks.Finder(["a", "b"], 2)
+        for log, done in ((["a"], False), (["b", "b", "a", "a"], False), (["a", "b"], True)):
+            before = list(log)
+            finder.answered(log, done)
+            finder.sure(log)
+            self.assertEqual(log, before)
+        for result in (finder.greatest(), finder.forced(), finder.found()):
+            self.assertEqual(result, (("a", "b"),))
+        for result in finder.asks():
+            self.assertIs(type(result), tuple)
+            self.assertFalse(has_list(result))
+
+    def test_where_one_of_several_is_told(self):
+        for hidden in ((), (("a", "b"),), (("a", "a"), ("b", "b"))):
+            given = asks.paper(("a", "b"), 2, hidden)
+            self.assertEqual(asks.paper(names=["a", "b"], base=as_lists(hidden), most=2), given)
+            self.assertIs(asks.shows(["a", "b"], 2, as_lists(hidden), as_lists(given)), True)
+            self.assertIs(asks.shows(logs=given, base=hidden, most=2, names=("a", "b")), True)
+        told = costs.notes(GOAL, ("a", "c", "b"), PAID)
+        self.assertEqual(costs.notes(costs=as_lists(PAID), log=["a", "c", "b"], base=as_lists(GOAL)), told)
+        self.assertFalse(has_list(told))
+        finders = [asks.Finder(("a", "b"), 3), asks.Finder(["a", "b"], 3)]
+        finders[0].answered(("a", "b", "a"), True)
+        finders[1].answered(["a", "b", "a"], True)
+        self.assertEqual(finders[0].another(), finders[1].another())
 
 
 class OfRules(unittest.TestCase):

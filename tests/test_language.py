@@ -13,11 +13,15 @@ SPEC.loader.exec_module(CHECK)
 BROKEN = {
     "L2": ("import os\n", "from os import path\n", "from moredone.other import *\n", "from .other import told\n",
            "from heapq import merge\n", "def told():\n    from math import gcd\n    return gcd(1, 2)\n",
-           "A = 1\nfrom math import gcd\n"),
+           "A = 1\nfrom math import gcd\n", "from math import gcd\n\n\ndef told():\n    k = gcd\n    return k(1, 2)\n",
+           "from math import gcd\n\n\ndef told(rows):\n    return max(rows, key=gcd)\n"),
     "L3": ("A, B = 1, 2\n", "A = [1] * 3\n", "print(1)\n", "if True:\n    A = 1\n", "A = len([1])\n"),
     "L4": ("def told(rows=[]):\n    return rows\n", "def told(k=len):\n    return k\n"),
     "L5": ("class Box:\n    SIZE = 3\n", "class Box:\n    def __hash__(self):\n        return 1\n",
-           "class Box:\n    def __add__(self, other, more):\n        return 1\n"),
+           "class Box:\n    def __add__(self, other, more):\n        return 1\n",
+           "class Box:\n    def __getitem__(self, at):\n        return at\n",
+           "class Box:\n    def __init__(self):\n        self.k = {}\n\n    def __contains__(self, x):\n"
+           "        self.k[x] = 1\n        return True\n"),
     "L6": ("def told():\n    global k\n    k = 1\n", "async def told():\n    return 1\n",
            "def told(k):\n    try:\n        return k\n    finally:\n        k = 1\n"),
     "L7": ("def told(k):\n    return k / 2\n", "def told():\n    return 0.5\n",
@@ -47,7 +51,10 @@ BROKEN = {
             "from moredone.other import told\n\n\ndef more(k):\n    return told(k, k)\n"),
     "L23": ("def told(rows):\n    k = zip(rows, rows)\n    return list(k)\n",
             "def told(rows):\n    for row in rows:\n        rows.append(row)\n    return rows\n",
-            "def told(rows):\n    return rows.items()\n"),
+            "def told(rows):\n    return rows.items()\n",
+            "def told(rows):\n    for k, n in rows.items():\n        rows[k] = n\n",
+            "def told(rows, more):\n    for k, n in zip(rows, more):\n        more.append(k)\n",
+            "def told(rows):\n    return [rows.pop() for row in rows]\n"),
     "L24": ("def told(rows):\n    for row in set(rows):\n        return row\n", "def told(rows):\n    return set(rows)\n",
             "def told(rows):\n    return sorted({k for k in rows}, key=len)\n",
             "def told(rows):\n    k = set(rows)\n    return k\n", "def told(rows):\n    k = set()\n    k = set(rows)\n",
@@ -56,7 +63,10 @@ BROKEN = {
     "L25": ("def told(rows):\n    rows.sort()\n", "def told(text):\n    return text.format_map(1)\n",
             "def told(k):\n    return k.real\n"),
     "L26": ("class Box:\n    def __init__(self):\n        self.items = 1\n",),
-    "L28": ("class Box:\n    def __init__(self):\n        self.k = 1\n        return None\n",),
+    "L28": ("class Box:\n    def __init__(self):\n        self.k = 1\n        return None\n",
+            "class Box:\n    def __init__(self):\n        self.k = 1\n\n    def __len__(self):\n        return self.k\n",
+            "class Box:\n    def __init__(self):\n        self.k = []\n\n    def __eq__(self, other):\n"
+            "        self.k.append(other)\n        return True\n"),
     "L27": ("A = 'a % b'\n", "A = '\\x41'\n", "def told(k, n):\n    return k ** n\n", "A = '__odd__'\n"),
 }
 FINE = (
@@ -67,6 +77,11 @@ FINE = (
     "class Bad(ValueError):\n    pass\n\n\ndef told(k):\n    try:\n        return max([1, k], key=abs)\n    except Bad:\n"
     "        raise Bad(1)\n",
     "def told(rows):\n    k = set(rows)\n    k.add(1)\n    return [row for row in rows if row in k] or sorted(k)\n",
+    "class Box:\n    def __init__(self):\n        self.k = []\n\n    def __len__(self):\n        return len(self.k)\n"
+    "\n    def __eq__(self, other):\n        return isinstance(other, Box) and self.k == other.k\n"
+    "\n    def __getitem__(self, at):\n        return self.k[at]\n"
+    "\n    def __iter__(self):\n        raise TypeError('k')\n",
+    "from math import gcd\n\n\ndef told(rows):\n    for k, n in list(rows.items()):\n        rows[k] = gcd(k, n)\n",
     "def more(a, b=1):\n    return a\n\n\ndef less(k):\n    return more(k) + more(k, k) + more(b=k, a=k) + more(k, b=k)\n",
     "def less(rows):\n    def more(row):\n        return row + 1\n\n    return [more(row) for row in rows]\n",
     "def told(rows):\n    for at, row in enumerate(rows):\n        if row is None or isinstance(row, (int, str)):\n"
