@@ -114,8 +114,8 @@ class Checker:
             elif isinstance(node, ast.ImportFrom):
                 bound.extend(each.asname or each.name for each in node.names)
             elif isinstance(node, ast.Assign) and len(node.targets) == 1 and isinstance(node.targets[0], ast.Name):
+                self.check_plain(node.value, self.functions(bound))
                 bound.append(node.targets[0].id)
-                self.check_plain(node.value)
             else:
                 self.say(node, "L3", "not at module level")
         if "ImportFrom" in kinds[sum(kind == "ImportFrom" for kind in kinds):]:
@@ -129,8 +129,15 @@ class Checker:
         self.library = {each.name for node in self.tree.body if isinstance(node, ast.ImportFrom)
                         and node.module in LIBRARY for each in node.names}
 
-    def check_plain(self, value):
+    def functions(self, names):
+        """Those of the names that are functions of this file."""
+        return {node.name for node in self.tree.body if isinstance(node, ast.FunctionDef)} & set(names)
+
+    def check_plain(self, value, functions):
+        """A value at module level: literals, and functions that stand above in lists, tuples and dicts."""
         for node in ast.walk(value):
+            if isinstance(node, ast.Name) and node is not value and node.id in functions:
+                continue
             if not isinstance(node, (ast.Constant, ast.List, ast.Tuple, ast.Dict, ast.UnaryOp, ast.USub, ast.Load)):
                 self.say(value, "L3", "a value that is not plain")
                 return

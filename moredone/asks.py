@@ -2,7 +2,7 @@
 
 from moredone.bases import ALWAYS, base_of, does
 from moredone.errors import Gainsaid, NoName, NothingDone
-from moredone.standings import standing
+from moredone.standings import least_logs, standing
 from moredone.words import copied, greatest_of, is_part, rest
 
 
@@ -149,40 +149,40 @@ def paper(names, most, base):
     words = copied(base)
     # Each word is forced by an ask of its own. All other logs that do not do the base have to be ruled out.
     wanted = greatest_of([log for log in _all_logs(names, most) if not does(words, log)])
-    return words + _fewest_asks(len(wanted), _undone_asks(names, words, wanted))
+    return words + fewest_covering(len(wanted), _undone_asks(names, words, wanted))
 
 
 def _undone_asks(names, base, wanted):
     """For each tuple of places of wanted logs that are parts of a log that does not do base: the least such log."""
+
+    def after(state, name):
+        """What is left of the wanted logs, and the standing, behind an event by which the base is not done."""
+        logs, left = state
+        later = standing(left, (name,))
+        return None if later == ALWAYS else (tuple([rest(part, (name,)) for part in logs]), later)
+
     asks = {}
-    reached = {}
-    layer = {(tuple(wanted), base): ()}
-    while layer:
-        longer = {}
-        for (rests, left), log in layer.items():
-            reached[(rests, left)] = True
-            asks.setdefault(tuple([at for at, word in enumerate(rests) if not word]), log)
-            for name in names:
-                state = (tuple([rest(word, (name,)) for word in rests]), standing(left, (name,)))
-                if state[1] != ALWAYS:
-                    longer.setdefault(state, log + (name,))
-        layer = {state: log for state, log in longer.items() if state not in reached}
+    for (rests, _), log in least_logs((tuple(wanted), base), names, after).items():
+        asks.setdefault(tuple([at for at, word in enumerate(rests) if not word]), log)
     return asks
 
 
-def _fewest_asks(many, asks):
-    """As few of the logs as can be for which each place from 0 on, so many, stands in a tuple that tells of one."""
+def fewest_covering(many, rows):
+    """As few values of the dict rows as can be among whose keys each place from 0 on, so many, stands: a tuple.
+
+    The keys are ascending tuples of places; each place stands in one of them.
+    """
     whole = tuple(range(many))
     # Ascending tuples are parts of each other if all that stands in one stands in the other.
-    best = greatest_of(list(asks))
+    best = greatest_of(list(rows))
     reached = {(): ()}
     while whole not in reached:
         longer = {}
-        for have, logs in reached.items():
-            # One ask has to be for this place, and in which order they are taken means nothing.
+        for have, chosen in reached.items():
+            # One of them has to be for this place, and in which order they are taken means nothing.
             lacking = [at for at in whole if at not in have][0]
             for places in best:
                 if lacking in places:
-                    longer.setdefault(tuple(sorted(set(have + places))), logs + (asks[places],))
+                    longer.setdefault(tuple(sorted(set(have + places))), chosen + (rows[places],))
         reached = longer
     return reached[whole]

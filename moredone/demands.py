@@ -12,7 +12,8 @@ from moredone.words import in_order
 class Demands:
     """Demands that logs of some names are to meet, and what is left of them behind events.
 
-    Inside, a demand is told by a number, and several of them by a row: an ascending tuple of such numbers.
+    Inside, a demand is told by a number, and a row of several ones, an ascending tuple of such numbers, by one, too:
+    the row without any by 0.
     """
 
     def __init__(self, names, behind):
@@ -23,16 +24,20 @@ class Demands:
         self.numbers = {}
         self.harder = {}
         self.left = {}
-        self.later = {}
-        self.least = {(): [()]}
+        self.rows = [()]
+        self.places = {(): 0}
+        # For each row the rows behind an event of a name, and the least logs that meet it, so far as they were wanted.
+        self.later = [{}]
+        self.least = {0: [()]}
 
     def meeting(self, demands):
         """The base of the logs that meet all of these demands."""
-        return tuple(self._least_logs(self._hardest([self._number(demand) for demand in demands])))
+        return tuple(self._least_logs(self._row([self._number(demand) for demand in demands])))
 
     def hardest(self, demands):
         """The list of those demands that are not met anyway or along with another one of them."""
-        return [self.told[number] for number in self._hardest([self._number(demand) for demand in demands])]
+        row = self._row([self._number(demand) for demand in demands])
+        return [self.told[number] for number in self.rows[row]]
 
     def _number(self, demand):
         """The number that tells this demand."""
@@ -41,10 +46,15 @@ class Demands:
             self.told.append(demand)
         return self.numbers[demand]
 
-    def _hardest(self, numbers):
-        """The row of the hardest ones of these demands."""
+    def _row(self, numbers):
+        """The number of the row of the hardest ones of these demands."""
         wanted = [number for number in sorted(set(numbers)) if self.told[number][0] != ALWAYS]
-        return tuple([each for each in wanted if not any([self._is_harder(other, each) for other in wanted])])
+        row = tuple([each for each in wanted if not any([self._is_harder(other, each) for other in wanted])])
+        if row not in self.places:
+            self.places[row] = len(self.rows)
+            self.rows.append(row)
+            self.later.append({})
+        return self.places[row]
 
     def _is_harder(self, one, other):
         """Whether one is another demand, and other is met by each log that meets it."""
@@ -63,16 +73,19 @@ class Demands:
 
     def _after(self, row, name):
         """The row of the hardest demands that are left of those of a row behind an event."""
-        key = (row, name)
-        if key not in self.later:
-            self.later[key] = self._hardest([left for number in row for left in self._left_of(number, name)])
-        return self.later[key]
+        later = self.later[row]
+        if name not in later:
+            later[name] = self._row([left for number in self.rows[row] for left in self._left_of(number, name)])
+        return later[name]
 
     def _is_met(self, row, log):
         """Whether the log meets all demands of the row."""
+        at = row
         for event in log:
-            row = self._after(row, event)
-        return row == ()
+            # This is asked so often that what is known is looked up here.
+            later = self.later[at]
+            at = later[event] if event in later else self._after(at, event)
+        return at == 0
 
     def _least_logs(self, row):
         """The list of the least logs that meet all demands of the row, in order."""

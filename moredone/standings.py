@@ -99,3 +99,23 @@ def longest_helping(base):
         reached = {steps.after(begun, name): log + (name,) for begun, log in reached.items()
                    for name in first_names(begun)}
     return longest
+
+
+def least_logs(start, names, after):
+    """For each state that logs of these names lead to the least such log, in the order of these logs: a dict.
+
+    after(state, name) is the state behind an event; None if none of this name may come there.
+    """
+    found = {start: ()}
+    layer = [start]
+    while layer:
+        longer = []
+        # What is found first stands behind the least log with one event fewer: so it is the least one, too.
+        for state in layer:
+            for name in names:
+                later = after(state, name)
+                if later is not None and later not in found:
+                    found[later] = found[state] + (name,)
+                    longer.append(later)
+        layer = longer
+    return found

@@ -1,6 +1,6 @@
 """The functions of the interface with the names of their arguments, and calls of them with what they return."""
 
-from moredone import asks, bases, coarse, costs, leads, losses, numbers, standings, weaves, words
+from moredone import asks, bases, books, coarse, costs, desk, leads, losses, numbers, standings, texts, weaves, words
 
 ORDER, CALL = (("a", "b"), ("b", "a", "a")), (("c",), ("a", "a"))
 BACK = (("a", "b", "a"), ("b", "a", "b"))
@@ -9,6 +9,7 @@ A, B, AB, AA = (("a",),), (("b",),), (("a", "b"),), (("a", "a"),)
 TWO = (("a", "b"), ("b", "a"))
 PAIR, EVEN = AB, (("a", (1, 2)), ("b", (1, 2)))
 GOAL, PAID = (("c",), ("a", "b")), (("a", 3), ("b", 1), ("c", 5))
+BOOK = (("each", TWO), ("first", A), ("order", AB))
 GATES, KNOWN = (("a", "b"), ("b",)), (((0, 0), (1, 0)),)
 
 # The functions of the interface with their arguments, and calls of them with what they return. (Where the document
@@ -118,6 +119,26 @@ CALLS = {
     costs.notes: (("base", "log", "costs"), [(A, ("a",), (("a", 2),), ((0, A, 2),)), (A, ("b",), PAID, ())]),
     costs.lines: (("base", "log", "costs", "name"), [(GOAL, (), PAID, "c", (((0, 1), 0, 1), ((4, 1), 4, 0))),
                                                      (GOAL, (), (), "b", ())]),
+    books.gained: (("book", "log"), [(BOOK, ("b", "a"), ("each", "first")), ((), LOG, ())]),
+    books.gained_at: (("book", "log"), [(BOOK, ("b", "a"), (("each", 2), ("first", 2))), ((), LOG, ())]),
+    books.brings: (("book", "badge"), [(BOOK, "order", ("each", "first", "order")), (BOOK, "first", ("first",))]),
+    books.gains: (("book",), [(BOOK, [(), ("first",), ("each", "first"), ("each", "first", "order")]), ((), [()])]),
+    books.just: (("book", "badges"), [(BOOK, ("each", "first"), ("b", "a")), (BOOK, ("each",), None), ((), (), ())]),
+    books.gained_in_row: (("book", "badges"), [(BOOK, ("each", "order"), ("b", "a", "b")), (BOOK, ("order", "first"), None),
+                                               ((), (), ())]),
+    books.tells: (("book", "others", "badge"), [(BOOK, ("each", "first"), "order", False), (BOOK, ("each",), "each", True)]),
+    books.unclear: (("book", "others", "badge"), [(BOOK, ("each", "first"), "order", (("a", "b"), ("b", "a"))),
+                                                  (BOOK, ("each",), "each", None)]),
+    books.makes: (("book", "others", "badge"), [(BOOK, ("each", "first"), "order", False), (BOOK, ("each",), "each", True)]),
+    books.made_of: (("book", "others", "badge"), [(BOOK, ("each", "first"), "order", None),
+                                                  (BOOK, ("each", "first"), "each", (("each",),))]),
+    books.tellers: (("book",), [(BOOK, ("each", "first", "order")), ((), ())]),
+    texts.log_text: (("log",), [(LOG, "b a c b a"), ((), "-")]),
+    texts.base_text: (("base",), [(CALL, "c | a a"), ((), "0"), (((),), "-")]),
+    texts.log_in: (("text",), [("b a c b a", LOG), ("-", ())]),
+    texts.base_in: (("text",), [("c | a a", CALL), ("0", ()), ("-", ((),))]),
+    desk.answers: (("sheet",), [("join ann\nevent ann a\nlog ann", ["done", "-", "a"]), ("back", ["nothing done"])]),
+    desk.is_command: (("line",), [("join ann", True), ("join Ann", False)]),
 }
 # The functions that take a thing, with their arguments, and calls of them with what they return: no list does for a
 # tuple in the thing.
@@ -129,6 +150,7 @@ THINGS = {
     weaves.is_taken: (("word", "log", "thing"), [(("b", "a"), LOG, ((0, 1), (3, 4)), True),
                                                  (("b", "a"), LOG, ((0, 1), (0, 4)), False)]),
     leads.is_split: (("base", "thing"), [(AB, (A, B), True), (AB, (B, A), False)]),
+    books.is_book: (("thing",), [(BOOK, True), (BOOK[::-1], False)]),
     coarse.is_classes: (("thing",), [(PAIR, True), ((("a", "b"), ("b", "c")), False)]),
     costs.are_notes: (("base", "log", "costs", "price", "thing"), [
         (GOAL, ("a", "b"), PAID, 1, ((0, GOAL, 1), (1, (("b",), ("c",)), 1)), True),

@@ -7,14 +7,15 @@ import itertools
 import os
 import unittest
 
-from moredone import asks, bases, coarse, costs, errors, leads, losses, numbers, rules, standings, weaves, words
-from tests.calls import A, AB, BACK, CALL, CALLS, GATES, GOAL, LOG, ORDER, PAID, PAIR, THINGS
+from moredone import (asks, bases, board, books, coarse, costs, desk, errors, leads, losses, numbers, rules, standings,
+                      texts, weaves, words)
+from tests.calls import A, AB, BACK, BOOK, CALL, CALLS, GATES, GOAL, LOG, ORDER, PAID, PAIR, THINGS
 from tests.helpers import as_lists, caught, has_list
 
 OF_RULES = {
     rules.seen: ("name",), rules.nothing: (), rules.never: (), rules.base: ("rule",), rules.rule_of: ("words",),
     rules.alike: ("rule", "other"), rules.goes_with: ("rule", "other"), rules.parting: ("rule", "other"),
-    rules.turned: ("rule",),
+    rules.turned: ("rule",), texts.rule_in: ("text",),
 }
 LISTED = {
     errors: """RuleError NoName BadText BadLine Tangled NoLog NoPlace NotDone Endless NoWay Twice NoPerson NoRule Taken
@@ -32,11 +33,22 @@ LISTED = {
     asks: "Finder shows paper",
     numbers: "how_many nth number_of how_many_with first_sure longest_without growth chance expected",
     costs: "cheapest cheapest_put cheapest_undoing notes are_notes lines",
+    books: "is_book gained gained_at brings gains just gained_in_row tells unclear makes made_of tellers",
+    board: "Board",
+    texts: "log_text base_text log_in base_in rule_in",
+    desk: "answers is_command",
 }
 # The classes of the interface with the names of the arguments of their methods.
 CLASSES = {
     asks.Finder: {"__init__": ("names", "most"), "answered": ("log", "done"), "greatest": (), "forced": (), "found": (),
                   "another": (), "sure": ("log",), "next_ask": (), "asks": (), "back": (), "__len__": (),
+                  "__eq__": ("other",)},
+    board.Board: {"__init__": ("book", "logs"), "people": (), "book": (), "done": ("person",), "who": ("rule",),
+                  "wanted": ("person",), "helped": ("person", "name"), "sure": ("person", "other"),
+                  "possible": ("person", "other"), "losers": ("book",), "threats": ("book",), "join": ("person",),
+                  "leave": ("person",), "event": ("person", "name"), "late": ("person", "place", "name"),
+                  "lose": ("person", "place"), "rule": ("name", "base"), "drop": ("name",), "attempt": ("deeds",),
+                  "back": (), "twin": (), "__getitem__": ("at",), "__contains__": ("x",), "__len__": (),
                   "__eq__": ("other",)},
 }
 
@@ -77,8 +89,8 @@ class Interface(unittest.TestCase):
                 parameters = list(inspect.signature(vars(each)[name]).parameters.values())
                 self.assertEqual(tuple(parameter.name for parameter in parameters[1:]), arguments, name)
                 for parameter in parameters:
-                    self.assertEqual((parameter.kind, parameter.default),
-                                     (parameter.POSITIONAL_OR_KEYWORD, parameter.empty))
+                    left_out = () if parameter.name == "logs" else parameter.empty
+                    self.assertEqual((parameter.kind, parameter.default), (parameter.POSITIONAL_OR_KEYWORD, left_out))
 
     def test_the_package_holds_nothing_but_its_files(self):
         folder = os.path.dirname(words.__file__)
@@ -155,6 +167,10 @@ class Calls(unittest.TestCase):
         price, left = costs.cheapest_undoing(GOAL, ("a", "c", "b"), PAID)
         self.assertTrue(costs.are_notes(GOAL, ("a", "c", "b"), PAID, price, costs.notes(GOAL, ("a", "c", "b"), PAID)))
         self.assertEqual(costs.cheapest_undoing(GOAL, left, PAID), (0, left))
+        for badges in books.gains(BOOK):
+            self.assertEqual(books.gained(BOOK, books.just(BOOK, badges)), badges)
+        self.assertEqual(texts.rule_in(texts.rule_in("a >> (b | c)").text).text, "a >> (b | c)")
+        self.assertTrue(board.Board(board.Board(BOOK).book()) == board.Board(BOOK))
 
     def test_results_do_not_hang_on_what_was_handed_in(self):
         given = [["a", "b"], ["c"]]
@@ -168,7 +184,10 @@ class Calls(unittest.TestCase):
                          lambda: coarse.lifted(given, ()), lambda: coarse.certain(given, ()),
                          lambda: coarse.joined(given, ()), lambda: coarse.shared(given, given),
                          lambda: asks.paper(("a", "b", "c"), 2, given), lambda: costs.cheapest_put(((),), given[0], ()),
-                         lambda: costs.cheapest_undoing((), given[0], ())):
+                         lambda: costs.cheapest_undoing((), given[0], ()),
+                         lambda: books.made_of([["r", given]], ["r"], "r"), lambda: books.just([["r", given]], ["r"]),
+                         lambda: board.Board([["r", given]]).book(), lambda: board.Board((), [["ann", given[0]]])["ann"],
+                         lambda: board.Board(()).threats([["r", given]])):
             result = function()
             before = copy.deepcopy(result)
             given[0].append("z")
@@ -264,6 +283,7 @@ class OfRules(unittest.TestCase):
             self.assertEqual([rules.goes_with(rule=other, other=one), rules.goes_with(other, one)], [True, True])
             self.assertEqual([rules.parting(other=one, rule=other), rules.parting(one, other)], [("b",)] * 2)
             self.assertEqual([rules.turned(rule=other).text, rules.turned(other).text], ["b | a"] * 2)
+            self.assertEqual([texts.rule_in(text="b|a").text, texts.rule_in("b | a").text], ["b | a"] * 2)
             self.assertEqual([rules.rule_of(words=ORDER).text, rules.rule_of(ORDER).text],
                              ["a >> b | b >> a >> a"] * 2)
 

@@ -15,7 +15,8 @@ BROKEN = {
            "from heapq import merge\n", "def told():\n    from math import gcd\n    return gcd(1, 2)\n",
            "A = 1\nfrom math import gcd\n", "from math import gcd\n\n\ndef told():\n    k = gcd\n    return k(1, 2)\n",
            "from math import gcd\n\n\ndef told(rows):\n    return max(rows, key=gcd)\n"),
-    "L3": ("A, B = 1, 2\n", "A = [1] * 3\n", "print(1)\n", "if True:\n    A = 1\n", "A = len([1])\n"),
+    "L3": ("A, B = 1, 2\n", "A = [1] * 3\n", "print(1)\n", "if True:\n    A = 1\n", "A = len([1])\n",
+           "A = {'a': told}\n\n\ndef told():\n    return 1\n", "def told():\n    return 1\n\n\nA = told\n"),
     "L4": ("def told(rows=[]):\n    return rows\n", "def told(k=len):\n    return k\n"),
     "L5": ("class Box:\n    SIZE = 3\n", "class Box:\n    def __hash__(self):\n        return 1\n",
            "class Box:\n    def __add__(self, other, more):\n        return 1\n",
@@ -82,6 +83,8 @@ FINE = (
     "\n    def __getitem__(self, at):\n        return self.k[at]\n"
     "\n    def __iter__(self):\n        raise TypeError('k')\n",
     "from math import gcd\n\n\ndef told(rows):\n    for k, n in list(rows.items()):\n        rows[k] = gcd(k, n)\n",
+    "def told(k):\n    return k\n\n\nA = {'a': told, 'b': (told, 1)}\n\n\ndef more(k, rows):\n    action = A[k]\n"
+    "    return action(*rows)\n",
     "def more(a, b=1):\n    return a\n\n\ndef less(k):\n    return more(k) + more(k, k) + more(b=k, a=k) + more(k, b=k)\n",
     "def less(rows):\n    def more(row):\n        return row + 1\n\n    return [more(row) for row in rows]\n",
     "def told(rows):\n    for at, row in enumerate(rows):\n        if row is None or isinstance(row, (int, str)):\n"
