@@ -316,6 +316,8 @@ class Checker:
                 self.say(node, "L22/L25", "a keyword or ** in this call")
         if (name in AT_ONCE or method in VIEWS) and not self.is_iterated(node):
             self.say(node, "L23", f"{name or method} is not iterated at once")
+        if name in FUNCTIONS - {"max", "min", "zip"} and any(isinstance(each, ast.Starred) for each in node.args):
+            self.say(node, "L7", f"a star in a call of {name}")
         if name == "set" and not self.is_set_place(node):
             self.say(node, "L24", "a set at this place")
         if not isinstance(node.func, (ast.Name, ast.Attribute, ast.Subscript)):

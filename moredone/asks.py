@@ -113,7 +113,8 @@ class Finder:
         """The least log for which it is not sure; None if there is none."""
         logs = self._logs(self.told)
         choices = _choices(logs, self.told)
-        # The others of so few events do no base that fits; and if it is not sure of a longer log, it is not of a word.
+        # Of the other logs of so few events it is sure that they are not done. And if it is of all these that they
+        # are, just one base fits: so it is sure of all longer ones, too.
         for log in logs:
             if not _is_sure(choices, log):
                 return log

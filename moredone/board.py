@@ -220,7 +220,7 @@ class Board:
 
     def _state(self):
         """The pair of the book and of the persons with their logs."""
-        return self.book(), tuple(sorted(self.logs.items()))
+        return self.book(), tuple(self.logs.items())
 
     def _keep(self):
         """Keeps what is now, to be taken back to."""

@@ -48,11 +48,11 @@ def possible(base, classes):
 def certain(base, classes):
     """The coarse base that a coarse log does if all logs that have it do base."""
     words = copied(base)
-    left = list(copied(classes))
+    left = [names for names in copied(classes) if _share(names, names_in(words))]
     if not _is_ever_certain(words, left):
         return ()
     while left:
-        # The names may be made one set by set. What leaves few words is soon gone on with.
+        # The names may be made one set by set. Where few words are left, it is soon gone on with.
         found = [(_certain_for(words, names), names) for names in left]
         words, done = min(found, key=_many_words)
         left.remove(done)
@@ -143,4 +143,5 @@ def coarsest(base):
         # Two names may stand for each other where what can stand around them is the same.
         around = [(word[:at], word[at + 1:]) for word in words for at in range(len(word)) if word[at] == name]
         alike.setdefault(tuple(sorted(around)), []).append(name)
-    return tuple(sorted([tuple(names) for names in alike.values() if len(names) > 1]))
+    # The names come in order: so do the sets, by the first one of each.
+    return tuple([tuple(names) for names in alike.values() if len(names) > 1])

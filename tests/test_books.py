@@ -259,6 +259,9 @@ class Makes(unittest.TestCase):
         book = book_of(*single, whole)
         found = made_of(book, BADGES[:4], "zeal")
         self.assertEqual(found, (("best", "first"), ("best", "mid"), ("first", "order"), ("mid", "order")))
+        # Ascending by comparison: the longer subset stands first.
+        book = book_of(*single[:3], either(both(single[0], single[1]), single[2]))
+        self.assertEqual(made_of(book, BADGES[:3], "order"), (("best", "first"), ("mid",)))
         pairs = (("best", (("a", "b"), ("b", "a"))), ("each", (("a",), ("b",))), ("mid", (("a",),)), ("zest", (("b",),)))
         self.assertEqual(made_of(pairs, ("each", "mid", "zest"), "best"), (("mid", "zest"),))
         self.assertEqual(made_of(pairs, ("best", "mid", "zest"), "each"), (("mid",), ("zest",)))

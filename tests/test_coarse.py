@@ -249,6 +249,7 @@ class Classes(unittest.TestCase):
         chain = (("a", "b"), ("c", "d"), ("e", "f"))
         self.assertEqual(joined(chain, (("b", "c"), ("d", "e"))), (("a", "b", "c", "d", "e", "f"),))
         self.assertEqual(joined((("c", "z"),), (("a", "d"), ("b", "z"))), (("a", "d"), ("b", "c", "z")))
+        self.assertEqual(shared((("a", "f", "g"), ("b", "c")), (("a", "b", "c"), ("f", "g"))), (("b", "c"), ("f", "g")))
         self.assertEqual(shared((("a", "c", "e"), ("b", "d")), (("a", "b", "c", "d"),)), (("a", "c"), ("b", "d")))
 
 

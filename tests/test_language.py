@@ -27,6 +27,7 @@ BROKEN = {
            "def told(k):\n    try:\n        return k\n    finally:\n        k = 1\n"),
     "L7": ("def told(k):\n    return k / 2\n", "def told():\n    return 0.5\n",
            "def told(rows):\n    return any(row for row in rows)\n", "def told():\n    return ...\n",
+           "def told(rows):\n    return len(*rows)\n",
            "def told(r):\n    return [0 for a in r for b in r for c in r for d in r for e in r for f in r for g in r]\n"),
     "L8": ("def told(rows):\n    return hash(rows)\n", "def told(rows):\n    return print(rows)\n",
            "def told(k):\n    return k.__class__\n"),
